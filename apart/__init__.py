@@ -1,0 +1,1 @@
+"""Apart: heaps told by parts that lie apart."""
