@@ -1,6 +1,7 @@
 """What the tests of several modules need: names and none, tellings and none."""
 
 from apart.errors import ApartError, NoName, NoProgram, NoRow, NoTelling, NoText, NoValue
+from apart.tellings import names_of
 
 LETTERS = "abcdefghijklmnopqrstuvwxyz"
 FIGURES = "0123456789"
@@ -172,3 +173,101 @@ class RefusalMixin:
         self.assertIsInstance(caught.exception, ApartError)
         self.assertIsInstance(caught.exception, ValueError)
         self.assertNotIsInstance(caught.exception, OTHER_REFUSALS)
+
+
+def some_fact(chance, words):
+    return (chance.choice(("is", "not", "not")), chance.choice(words), chance.choice(words))
+
+
+def some_part(chance, words):
+    kind = chance.choice(("cell", "cell", "stretch", "stretch", "tree"))
+    if kind == "cell":
+        return (kind, chance.choice(words), chance.choice(words + ["any"]), chance.choice(words + ["any"]))
+    return (kind, chance.choice(words)) + ((chance.choice(words),) if kind == "stretch" else ())
+
+
+def some_telling(chance, names, most_facts, most_parts):
+    """A telling of these names (not all of them need be there) and nil."""
+    words = list(names) + ["nil"]
+    facts = [some_fact(chance, words) for count in range(chance.randint(0, most_facts))]
+    parts = [some_part(chance, words) for count in range(chance.randint(0, most_parts))]
+    return (facts, parts)
+
+
+class Reference:
+    """What is known of facts and parts, found from points 12 to 14 by trying all pairs again and again."""
+
+    def __init__(self, facts, parts, names):
+        self.parts = parts
+        self.words = sorted({"nil"} | set(names) | set(names_of((facts, parts))))
+        self.pairs = [(a, b) for a in self.words for b in self.words]
+        self.is_so = {(a, a) for a in self.words}
+        self.not_so = set()
+        self.facts = facts
+        before = None
+        while before != (len(self.is_so), len(self.not_so)):
+            before = (len(self.is_so), len(self.not_so))
+            self.is_so |= {(a, b) for a, b in self.pairs if ("is", a, b) in facts or ("is", b, a) in facts}
+            self.is_so |= {(a, c) for a, b in self.pairs for c in self.words if self.alike(a, b) and self.alike(b, c)}
+            self.not_so |= {(a, b) for a, b in self.pairs if self.must_be_unlike(a, b)}
+
+    def alike(self, a, b):
+        return (a, b) in self.is_so
+
+    def unlike(self, a, b):
+        return (a, b) in self.not_so
+
+    def empty(self, number):
+        part = self.parts[number]
+        return {"cell": False, "stretch": self.alike(part[1], part[-1]), "tree": self.alike(part[1], "nil")}[part[0]]
+
+    def full(self, number):
+        part = self.parts[number]
+        return {"cell": True, "stretch": self.unlike(part[1], part[-1]), "tree": self.unlike(part[1], "nil")}[part[0]]
+
+    def full_ones(self):
+        return [number for number in range(len(self.parts)) if self.full(number)]
+
+    def not_empty_ones(self):
+        return [number for number in range(len(self.parts)) if not self.empty(number)]
+
+    def must_be_unlike(self, a, b):
+        for word, x, y in self.facts:
+            for c, d in ((x, y), (y, x)):
+                if word == "not" and self.alike(a, c) and self.alike(b, d):
+                    return True
+        for one in self.full_ones():
+            place = self.parts[one][1]
+            for c, d in ((a, b), (b, a)):
+                if self.alike(c, place) and self.alike(d, "nil"):
+                    return True
+                for other in self.full_ones():
+                    if one != other and self.alike(c, place) and self.alike(d, self.parts[other][1]):
+                        return True
+        return False
+
+    def clash(self):
+        if self.is_so & self.not_so:
+            return True
+        places = [self.parts[number][1] for number in self.full_ones()]
+        if any(self.alike(place, "nil") for place in places):
+            return True
+        return any(self.alike(places[k], places[j]) for k in range(len(places)) for j in range(k))
+
+    def ready(self):
+        places = [self.parts[number][1] for number in self.not_empty_ones()]
+        if any(self.alike(place, "nil") for place in places):
+            return False
+        return not any(self.alike(places[k], places[j]) for k in range(len(places)) for j in range(k))
+
+    def open_pairs(self):
+        """All pairs that point 14 lets be told."""
+        told = []
+        for number in self.not_empty_ones():
+            part = self.parts[number]
+            others = [self.parts[other][1] for other in self.not_empty_ones() if other != number]
+            if part[0] != "cell" and any(self.alike(part[1], word) for word in others + ["nil"]):
+                a, b = (part[1], part[2]) if part[0] == "stretch" else (part[1], "nil")
+                if not self.alike(a, b) and not self.unlike(a, b):
+                    told.extend([(a, b), (b, a)])
+        return told
