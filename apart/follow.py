@@ -1,6 +1,6 @@
 """What follows: a paper that shows it, or values and a heap that show that it doesn't."""
 
-from apart.covers import fits
+from apart.covers import cover, fits
 from apart.examples import state_of
 from apart.known import Knowledge, ends_of
 from apart.tellings import names_of
@@ -9,13 +9,15 @@ from apart.tellings import names_of
 class Taking:
     """Parts of a first telling that is ready, taken for the parts of another one (18).
 
-    Two that are neither known to be alike nor unlike are taken to be unlike, as in the first telling's examples.
-    Doubt is the first such pair that a cover must know to be unlike, else None. Where a stretch of the other
-    telling may come to its end too early (19), amid is a dict with that end by the number of the stretch.
+    Parts is a dict of those that are there to be taken, by the numbers that they have in what is known. Two that
+    are neither known to be alike nor unlike are taken to be unlike, as in the first telling's examples. Doubt is
+    the first such pair that a cover must know to be unlike, else None. Where a stretch of the other telling may
+    come to its end too early (19), amid is a dict with that end by the number of the stretch.
     """
 
-    def __init__(self, knowledge):
+    def __init__(self, knowledge, parts):
         self.knowledge = knowledge
+        self.parts = parts
         self.taken = {}
         self.doubt = None
         self.amid = {}
@@ -35,7 +37,7 @@ class Taking:
     def take(self, place):
         """The number of the part at a place, or None where none is there that hasn't been taken yet."""
         number = self.knowledge.number_at(place)
-        if number is None or number in self.taken:
+        if number not in self.parts or number in self.taken:
             return None
         self.taken[number] = True
         return number
@@ -49,7 +51,7 @@ class Taking:
         number = self.take(part[1])
         if number is None:
             return None
-        found = self.knowledge.parts[number]
+        found = self.parts[number]
         if found[0] != "cell" or not self.gives(found[2], part[2]) or not self.gives(found[3], part[3]):
             return None
         return [number]
@@ -69,7 +71,7 @@ class Taking:
 
     def passed(self, number, end):
         """Where one stands who went through a part, to an end that is further on; or None."""
-        found = self.knowledge.parts[number]
+        found = self.parts[number]
         if found[0] == "cell" and found[3] != "any":
             self.ask_unlike(found[1], end)
             return found[3]
@@ -104,7 +106,7 @@ class Taking:
                 number = self.take(place)
                 if number is None:
                     return None
-                found = self.knowledge.parts[number]
+                found = self.parts[number]
                 if found[0] == "stretch" or "any" in found:
                     return None
                 if found[0] == "cell":
@@ -130,45 +132,69 @@ class Taking:
             rows.append(row)
         return rows
 
-
-def state_against(taking, names, other):
-    """Values and a heap that fit the first telling, and not the other one, for which the taking found no rows."""
-    knowledge = taking.knowledge
-    state = state_of(knowledge, names, {})
-    if fits(state[0], state[1], other):
-        # It fits only as no end lies amid a stretch here; where the one that may does, cells are left over.
-        state = state_of(knowledge, names, taking.amid)
-    return ("state", state[0], state[1])
+    def leaves_some(self):
+        """Whether a part that isn't known to be empty has been left."""
+        return any([number in self.parts and number not in self.taken for number in self.knowledge.not_empty])
 
 
-def split_paper(one, other, names, pair):
-    """A paper that splits by a pair, or a state."""
-    papers = []
+def shows_against(state, other, whole):
+    """Whether the other telling doesn't fit the heap, as a whole, or else any part of it."""
+    if whole:
+        return not fits(state[0], state[1], other)
+    return cover(state[0], state[1], other) is None
+
+
+def state_against(taking, names, other, whole):
+    """Values and a heap that fit the first telling, and not the other one, for which the taking found no rows.
+
+    Where all is asked for there is always one: if the first one here fits, that is only as no end lies amid a
+    stretch; where the one that may does, cells are left over. Else None may be told.
+    """
+    for amid in ({}, taking.amid):
+        state = state_of(taking.knowledge, names, amid)
+        if shows_against(state, other, whole):
+            return ("state", state[0], state[1])
+    return None
+
+
+def split_paper(one, other, names, whole, pair):
+    """A paper that splits by a pair, or a state, or None where neither was found."""
+    answers = []
     for word in ("is", "not"):
-        answer = shown((one[0] + [(word, pair[0], pair[1])], one[1]), other, names)
-        if answer[0] == "state":
+        answer = shown((one[0] + [(word, pair[0], pair[1])], one[1]), other, names, whole)
+        if answer is not None and answer[0] == "state":
             return answer
-        papers.append(answer[1])
-    return ("paper", ("split", pair[0], pair[1], papers[0], papers[1]))
+        answers.append(answer)
+    if None in answers:
+        return None
+    return ("paper", ("split", pair[0], pair[1], answers[0][1], answers[1][1]))
 
 
-def shown(one, other, names):
-    """A paper that shows that the other telling follows, or a state, of these names, that shows that it doesn't."""
+def shown(one, other, names, whole):
+    """A paper that shows that the other telling takes its parts of the one, and, where whole is True, all of them.
+
+    Or a state, of these names, that shows that it doesn't; or None, never where whole is True.
+    """
     knowledge = Knowledge(one[0], one[1])
     if knowledge.clashing():
         return ("paper", ("clash",))
     pair = knowledge.open_ends()
     if pair is None:
-        taking = Taking(knowledge)
+        taking = Taking(knowledge, dict(enumerate(one[1])))
         rows = taking.rows_of(other)
-        if rows is None or len(taking.taken) < len(knowledge.not_empty):
-            return state_against(taking, names, other)
+        if rows is None or (whole and taking.leaves_some()):
+            return state_against(taking, names, other, whole)
         pair = taking.doubt
         if pair is None:
             return ("paper", ("cover", rows))
-    return split_paper(one, other, names, pair)
+    return split_paper(one, other, names, whole, pair)
+
+
+def names_of_both(one, other):
+    """The sorted list of the names of two tellings."""
+    return sorted(set(names_of(one) + names_of(other)))
 
 
 def followed(one, other):
     """`("paper", paper)` where the other telling follows from the one, else `("state", values, heap)` (20)."""
-    return shown(one, other, sorted(set(names_of(one) + names_of(other))))
+    return shown(one, other, names_of_both(one, other), True)

@@ -62,11 +62,11 @@ class Knowledge:
 
     def find_fulls(self):
         """Find the full parts: each one makes its place unlike to others, which may make more parts full."""
-        waiting = list(range(len(self.parts)))
-        found = [number for number in waiting if self.must_be_full(number)]
+        found = [number for number in range(len(self.parts)) if self.must_be_full(number)]
         while found:
-            self.tell_full(found[0])
-            waiting.remove(found[0])
+            for number in found:
+                self.tell_full(number)
+            waiting = [number for number in range(len(self.parts)) if number not in self.fulls]
             found = [number for number in waiting if self.must_be_full(number)]
 
     def tell_full(self, number):

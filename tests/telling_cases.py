@@ -1,5 +1,8 @@
-"""What the tests of several modules need: names and none, tellings and none."""
+"""What the tests of several modules need: names, tellings and programs, checkers of papers and states."""
 
+import itertools
+
+from apart.covers import fits
 from apart.errors import ApartError, NoName, NoProgram, NoRow, NoTelling, NoText, NoValue
 from apart.tellings import names_of
 
@@ -271,3 +274,296 @@ class Reference:
                 if not self.alike(a, b) and not self.unlike(a, b):
                     told.extend([(a, b), (b, a)])
         return told
+
+
+SIX_NAMES = ("x", "y", "z", "u", "v", "w")
+
+
+def cell_flaw(known, row, part):
+    """Why the row doesn't take this cell (18), or None."""
+    if len(row) != 1:
+        return "a cell's row has not one number"
+    found = known.parts[row[0]]
+    if found[0] != "cell" or not known.alike(found[1], part[1]):
+        return "no cell at the place"
+    for place in (2, 3):
+        if part[place] != "any" and (found[place] == "any" or not known.alike(found[place], part[place])):
+            return "another value in the cell"
+    return None
+
+
+def stretch_flaw(known, row, part):
+    """Why the row doesn't take this stretch (18), or None."""
+    stand, end = part[1], part[2]
+    fulls = [known.parts[number][1] for number in known.full_ones()]
+    for number in row:
+        found = known.parts[number]
+        if not known.alike(found[1], stand):
+            return "a part that doesn't lie where one stands"
+        if found[0] == "cell" and known.unlike(stand, end) and found[3] != "any":
+            stand = found[3]
+        elif found[0] == "stretch" and known.alike(found[2], end):
+            stand = found[2]
+        elif found[0] == "stretch" and known.unlike(stand, end) and (
+                known.alike(end, "nil") or any(known.alike(end, place) for place in fulls)):
+            stand = found[2]
+        else:
+            return "a part that one can't pass"
+    return None if known.alike(stand, end) else "one doesn't stand at the end"
+
+
+def tree_flaw(known, row, part):
+    """Why the row doesn't take this tree (18), or None."""
+    coming, left = [part[1]], list(row)
+    while coming:
+        place = coming.pop(0)
+        if known.alike(place, "nil"):
+            continue
+        if not left:
+            return "a tree without a part"
+        found = known.parts[left.pop(0)]
+        if not known.alike(found[1], place):
+            return "a part that lies elsewhere than the tree"
+        if found[0] == "cell" and "any" not in found[2:]:
+            coming = [found[2], found[3]] + coming
+        elif found[0] != "tree":
+            return "a part that is no tree's"
+    return "a number that is left" if left else None
+
+
+FLAWS = {"cell": cell_flaw, "stretch": stretch_flaw, "tree": tree_flaw}
+
+
+def cover_flaw(known, rows, other, whole):
+    """Why the rows are no cover (18), or None; where whole is False, parts may be left over (21)."""
+    for word, a, b in other[0]:
+        if not (known.alike(a, b) if word == "is" else known.unlike(a, b)):
+            return "a fact that isn't known"
+    if type(rows) is not list or len(rows) != len(other[1]):
+        return "another number of rows than parts"
+    numbers = []
+    for row in rows:
+        if type(row) is not list or any(type(number) is not int for number in row):
+            return "a row that is no list of numbers"
+        numbers.extend(row)
+    if any(number not in range(len(known.parts)) for number in numbers):
+        return "a number of no part"
+    if len(set(numbers)) != len(numbers):
+        return "a number that stands twice"
+    if whole and not set(known.not_empty_ones()) <= set(numbers):
+        return "a part that stands in no row"
+    for row, part in zip(rows, other[1]):
+        flaw = FLAWS[part[0]](known, row, part)
+        if flaw is not None:
+            return flaw
+    return None
+
+
+def paper_flaw(paper, one, other, whole=True):
+    """Why this is no paper (17 to 19), or, where whole is False, no rest paper (21); or None."""
+    names = sorted(set(names_of(one)) | set(names_of(other)))
+    if type(paper) is not tuple:
+        return "a paper that is no tuple"
+    if paper[0] == "split" and len(paper) == 5:
+        if any(word not in names + ["nil"] for word in paper[1:3]):
+            return "a split by what is no name of the two"
+        for word, next_paper in zip(("is", "not"), paper[3:]):
+            flaw = paper_flaw(next_paper, (one[0] + [(word, paper[1], paper[2])], one[1]), other, whole)
+            if flaw is not None:
+                return flaw
+        return None
+    known = Reference(one[0], one[1], names)
+    if paper == ("clash",):
+        return None if known.clash() else "what is said to clash doesn't"
+    if paper[0] == "cover" and len(paper) == 2:
+        return cover_flaw(known, paper[1], other, whole)
+    return "no paper"
+
+
+def state_flaw(values, heap, one, other):
+    """Why these are no values of the names of both with a heap that fit the first telling, or None."""
+    if type(values) is not dict or type(heap) is not dict:
+        return "no dicts"
+    if sorted(values) != sorted(set(names_of(one)) | set(names_of(other))):
+        return "other names than those of the two"
+    numbers = list(values.values())
+    for address, cell in heap.items():
+        if type(address) is not int or address < 1 or type(cell) is not tuple or len(cell) != 2:
+            return "no heap"
+        numbers.extend(cell)
+    if any(type(number) is not int or number < 0 or number >= 10 ** 60 for number in numbers):
+        return "no values"
+    return None if fits(values, heap, one) else "the first one doesn't fit"
+
+
+def pairs_of(text):
+    """The pairs of tellings' texts that stand in the rows, but those of remarks; rows that begin with blanks go on."""
+    rows = [row for row in text.replace("\n    ", " ").split("\n") if row and not row.startswith("#")]
+    return [tuple(row.split(" => ")) for row in rows]
+
+
+def turn_about(chance, facts, parts):
+    return ([(word, b, a) for word, a, b in chance.sample(facts, len(facts))], chance.sample(parts, len(parts)))
+
+
+def leave_out_a_fact(chance, facts, parts):
+    return (chance.sample(facts, max(len(facts) - 1, 0)), parts)
+
+
+def cells_as_stretches(chance, facts, parts):
+    def turned(part):
+        may_be = part[0] == "cell" and part[3] != "any"
+        return ("stretch", part[1], part[3]) if may_be and chance.random() < 0.5 else part
+
+    return (facts, [turned(part) for part in parts])
+
+
+def join_stretches(chance, facts, parts):
+    for k, j in itertools.permutations(range(len(parts)), 2):
+        if parts[k][0] == parts[j][0] == "stretch" and parts[k][2] == parts[j][1]:
+            others = [part for number, part in enumerate(parts) if number not in (k, j)]
+            return (facts, others + [("stretch", parts[k][1], parts[j][2])])
+    return (facts, parts)
+
+
+def join_tree(chance, facts, parts):
+    for part in parts:
+        if part[0] == "cell" and "any" not in part:
+            others = [other for other in parts if other != part]
+            for word in part[2:]:
+                if ("tree", word) in others:
+                    others.remove(("tree", word))
+            return (facts, others + [("tree", part[1])])
+    return (facts, parts)
+
+
+def exchange_names(chance, facts, parts):
+    for word, a, b in facts:
+        if word == "is" and chance.random() < 0.5:
+            return (facts, [part[:1] + tuple(b if each == a else each for each in part[1:]) for part in parts])
+    return (facts, parts)
+
+
+def hide_values(chance, facts, parts):
+    hidden = [part[:2] + tuple(chance.choice((word, "any")) for word in part[2:]) if part[0] == "cell" else part
+              for part in parts]
+    return (facts, hidden)
+
+
+WAYS = (turn_about, leave_out_a_fact, cells_as_stretches, join_stretches, join_tree, exchange_names, hide_values)
+
+
+def with_parts_put_together(chance, telling):
+    """A telling that often follows from this one: parts put together, facts left out, alike names exchanged."""
+    facts, parts = list(telling[0]), list(telling[1])
+    for count in range(chance.randint(0, 4)):
+        facts, parts = chance.choice(WAYS)(chance, facts, parts)
+    return (facts, parts)
+
+
+def empty(told):
+    """Empty all lists and dicts of an answer."""
+    if type(told) in (tuple, list):
+        for each in told:
+            empty(each)
+    if type(told) in (list, dict):
+        told.clear()
+
+
+def lists_of(told):
+    """All lists in an answer."""
+    found = [told] if type(told) is list else []
+    if type(told) in (tuple, list):
+        for each in told:
+            found += lists_of(each)
+    return found
+
+
+def some_cells(chance, part, values, spares):
+    """Cells that a part may take, as a dict, however many; spares is a list of addresses, of which some are taken."""
+    numbers = dict(values, nil=0)
+    junk = list(numbers.values()) + [chance.randint(0, 99)]
+    place = numbers[part[1]]
+    if part[0] == "cell":
+        return {place: tuple(chance.choice(junk) if word == "any" else numbers[word] for word in part[2:])}
+    cells = {}
+    if part[0] == "stretch":
+        while place != numbers[part[2]]:
+            later = numbers[part[2]] if chance.random() < 0.5 else spares.pop()
+            cells[place] = (chance.choice(junk), later)
+            place = later
+        return cells
+    coming = [place]
+    while coming:
+        place = coming.pop()
+        if place != 0:
+            cells[place] = tuple(0 if chance.random() < 0.6 else spares.pop() for side in range(2))
+            coming.extend(cells[place])
+    return cells
+
+
+def some_state(chance, telling, names):
+    """Values of the names, all those of the telling among them, and a heap, that fit; or None where none was found."""
+    for count in range(12):
+        values = {name: chance.randint(0, 1 + len(names)) for name in names}
+        for word, a, b in telling[0] * 2:
+            if word == "is":
+                values[a] = values.get(b, 0)
+        values.pop("nil", None)
+        spares = chance.sample(range(1, 300), 299)
+        heap = {}
+        for part in telling[1]:
+            heap.update(some_cells(chance, part, values, spares))
+        if 0 not in heap and fits(values, heap, telling):
+            return (values, heap)
+    return None
+
+
+class SomeProgram:
+    """A program by chance, within all bounds of points 22 to 24."""
+
+    def __init__(self, chance):
+        self.chance = chance
+        self.left = chance.choice((5, 15, 30))
+        self.heads = []
+        for name in chance.sample(("p", "q", "first", "end", "x", "set7"), chance.randint(1, 4)):
+            names = chance.sample(("x", "y", "z", "u", "v", "first", "second", "set", "end", "p"), 6)
+            params = tuple(names[:chance.randint(0, 4)])
+            result = names[4] if chance.random() < 0.5 else ""
+            self.heads.append((name, params, result, names[len(params):]))
+        self.program = [self.procedure(*head) for head in self.heads]
+
+    def procedure(self, name, params, result, others):
+        before = some_telling(self.chance, params, 3, 3)
+        behind = some_telling(self.chance, params + ((result,) if result else ()), 3, 3)
+        return (name, params, result, before, behind, self.deeds(list(params), others, 0))
+
+    def deeds(self, params, others, around):
+        found = []
+        while self.left > 0 and self.chance.random() < (0.85 if around == 0 else 0.6):
+            self.left -= 1
+            found.append(self.deed(params, others, around))
+        return found
+
+    def deed(self, params, others, around):
+        chance = self.chance
+        names = params + others
+        words = names + ["nil"]
+        value, field = chance.choice(words), chance.choice(("first", "second"))
+        condition = (chance.choice(("is", "not")), chance.choice(words), chance.choice(words))
+        name, params_called, result, rest = chance.choice(self.heads)
+        called = tuple(chance.choice(words) for param in params_called)
+        deeds = [("set", chance.choice(others), value), ("read", chance.choice(others), chance.choice(names), field),
+                 ("write", chance.choice(names), field, value), ("free", chance.choice(names)),
+                 ("new", chance.choice(others), value, chance.choice(words)),
+                 ("call", chance.choice(others) if result else "", name, called)]
+        if around < 4 and chance.random() < 0.4:
+            inner = self.deeds(params, others, around + 1)
+            if chance.random() < 0.5:
+                return ("if", condition, inner, self.deeds(params, others, around + 1))
+            return ("while", condition, some_telling(chance, names, 2, 2), inner)
+        return chance.choice(deeds)
+
+
+def some_program(chance):
+    return SomeProgram(chance).program

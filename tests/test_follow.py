@@ -6,143 +6,16 @@ import unittest
 from apart.covers import fits
 from apart.follow import followed
 from apart.notes import read_telling, show_telling
-from apart.tellings import names_of
-from telling_cases import Reference, some_telling
-
-SIX_NAMES = ("x", "y", "z", "u", "v", "w")
-
-
-def cell_flaw(known, row, part):
-    """Why the row doesn't take this cell (18), or None."""
-    if len(row) != 1:
-        return "a cell's row has not one number"
-    found = known.parts[row[0]]
-    if found[0] != "cell" or not known.alike(found[1], part[1]):
-        return "no cell at the place"
-    for place in (2, 3):
-        if part[place] != "any" and (found[place] == "any" or not known.alike(found[place], part[place])):
-            return "another value in the cell"
-    return None
-
-
-def stretch_flaw(known, row, part):
-    """Why the row doesn't take this stretch (18), or None."""
-    stand, end = part[1], part[2]
-    fulls = [known.parts[number][1] for number in known.full_ones()]
-    for number in row:
-        found = known.parts[number]
-        if not known.alike(found[1], stand):
-            return "a part that doesn't lie where one stands"
-        if found[0] == "cell" and known.unlike(stand, end) and found[3] != "any":
-            stand = found[3]
-        elif found[0] == "stretch" and known.alike(found[2], end):
-            stand = found[2]
-        elif found[0] == "stretch" and known.unlike(stand, end) and (
-                known.alike(end, "nil") or any(known.alike(end, place) for place in fulls)):
-            stand = found[2]
-        else:
-            return "a part that one can't pass"
-    return None if known.alike(stand, end) else "one doesn't stand at the end"
-
-
-def tree_flaw(known, row, part):
-    """Why the row doesn't take this tree (18), or None."""
-    coming, left = [part[1]], list(row)
-    while coming:
-        place = coming.pop(0)
-        if known.alike(place, "nil"):
-            continue
-        if not left:
-            return "a tree without a part"
-        found = known.parts[left.pop(0)]
-        if not known.alike(found[1], place):
-            return "a part that lies elsewhere than the tree"
-        if found[0] == "cell" and "any" not in found[2:]:
-            coming = [found[2], found[3]] + coming
-        elif found[0] != "tree":
-            return "a part that is no tree's"
-    return "a number that is left" if left else None
-
-
-FLAWS = {"cell": cell_flaw, "stretch": stretch_flaw, "tree": tree_flaw}
-
-
-def cover_flaw(known, rows, other):
-    """Why the rows are no cover (18), or None."""
-    for word, a, b in other[0]:
-        if not (known.alike(a, b) if word == "is" else known.unlike(a, b)):
-            return "a fact that isn't known"
-    if type(rows) is not list or len(rows) != len(other[1]):
-        return "another number of rows than parts"
-    numbers = []
-    for row in rows:
-        if type(row) is not list or any(type(number) is not int for number in row):
-            return "a row that is no list of numbers"
-        numbers.extend(row)
-    if any(number not in range(len(known.parts)) for number in numbers):
-        return "a number of no part"
-    if len(set(numbers)) != len(numbers):
-        return "a number that stands twice"
-    if not set(known.not_empty_ones()) <= set(numbers):
-        return "a part that stands in no row"
-    for row, part in zip(rows, other[1]):
-        flaw = FLAWS[part[0]](known, row, part)
-        if flaw is not None:
-            return flaw
-    return None
-
-
-def paper_flaw(paper, one, other):
-    """Why the paper doesn't show that the other telling follows (17 to 19), or None."""
-    names = sorted(set(names_of(one)) | set(names_of(other)))
-    if type(paper) is not tuple:
-        return "a paper that is no tuple"
-    if paper[0] == "split" and len(paper) == 5:
-        if any(word not in names + ["nil"] for word in paper[1:3]):
-            return "a split by what is no name of the two"
-        for word, next_paper in zip(("is", "not"), paper[3:]):
-            flaw = paper_flaw(next_paper, (one[0] + [(word, paper[1], paper[2])], one[1]), other)
-            if flaw is not None:
-                return flaw
-        return None
-    known = Reference(one[0], one[1], names)
-    if paper == ("clash",):
-        return None if known.clash() else "what is said to clash doesn't"
-    if paper[0] == "cover" and len(paper) == 2:
-        return cover_flaw(known, paper[1], other)
-    return "no paper"
-
-
-def state_flaw(values, heap, one, other):
-    """Why the values and the heap don't show that the other telling doesn't follow (20), or None."""
-    if type(values) is not dict or type(heap) is not dict:
-        return "no dicts"
-    if sorted(values) != sorted(set(names_of(one)) | set(names_of(other))):
-        return "other names than those of the two"
-    numbers = list(values.values())
-    for address, cell in heap.items():
-        if type(address) is not int or address < 1 or type(cell) is not tuple or len(cell) != 2:
-            return "no heap"
-        numbers.extend(cell)
-    if any(type(number) is not int or number < 0 or number >= 10 ** 60 for number in numbers):
-        return "no values"
-    if not fits(values, heap, one):
-        return "the first one doesn't fit"
-    return "the other one fits" if fits(values, heap, other) else None
-
+from telling_cases import (SIX_NAMES, empty, lists_of, pairs_of, paper_flaw, some_telling, state_flaw, turn_about,
+                           with_parts_put_together)
 
 def answer_flaw(answer, one, other):
     if type(answer) is tuple and len(answer) == 2 and answer[0] == "paper":
         return paper_flaw(answer[1], one, other)
     if type(answer) is tuple and len(answer) == 3 and answer[0] == "state":
-        return state_flaw(answer[1], answer[2], one, other)
+        flaw = state_flaw(answer[1], answer[2], one, other)
+        return "the other one fits" if flaw is None and fits(answer[1], answer[2], other) else flaw
     return "no answer"
-
-
-def pairs_of(text):
-    """The pairs of tellings' texts that stand in the rows, but those of remarks; rows that begin with blanks go on."""
-    rows = [row for row in text.replace("\n    ", " ").split("\n") if row and not row.startswith("#")]
-    return [tuple(row.split(" => ")) for row in rows]
 
 
 FOLLOWS = pairs_of("""
@@ -336,65 +209,6 @@ w not x, w not y, w not z, w not u, cell x any y, cell y any z, cell z any u, ce
 ALL_PAIRS = FOLLOWS + GREAT_FOLLOWS + NOT_FOLLOWS + GREAT_NOT_FOLLOWS
 
 
-def turn_about(chance, facts, parts):
-    return ([(word, b, a) for word, a, b in chance.sample(facts, len(facts))], chance.sample(parts, len(parts)))
-
-
-def leave_out_a_fact(chance, facts, parts):
-    return (chance.sample(facts, max(len(facts) - 1, 0)), parts)
-
-
-def cells_as_stretches(chance, facts, parts):
-    def turned(part):
-        may_be = part[0] == "cell" and part[3] != "any"
-        return ("stretch", part[1], part[3]) if may_be and chance.random() < 0.5 else part
-
-    return (facts, [turned(part) for part in parts])
-
-
-def join_stretches(chance, facts, parts):
-    for k, j in itertools.permutations(range(len(parts)), 2):
-        if parts[k][0] == parts[j][0] == "stretch" and parts[k][2] == parts[j][1]:
-            others = [part for number, part in enumerate(parts) if number not in (k, j)]
-            return (facts, others + [("stretch", parts[k][1], parts[j][2])])
-    return (facts, parts)
-
-
-def join_tree(chance, facts, parts):
-    for part in parts:
-        if part[0] == "cell" and "any" not in part:
-            others = [other for other in parts if other != part]
-            for word in part[2:]:
-                if ("tree", word) in others:
-                    others.remove(("tree", word))
-            return (facts, others + [("tree", part[1])])
-    return (facts, parts)
-
-
-def exchange_names(chance, facts, parts):
-    for word, a, b in facts:
-        if word == "is" and chance.random() < 0.5:
-            return (facts, [part[:1] + tuple(b if each == a else each for each in part[1:]) for part in parts])
-    return (facts, parts)
-
-
-def hide_values(chance, facts, parts):
-    hidden = [part[:2] + tuple(chance.choice((word, "any")) for word in part[2:]) if part[0] == "cell" else part
-              for part in parts]
-    return (facts, hidden)
-
-
-WAYS = (turn_about, leave_out_a_fact, cells_as_stretches, join_stretches, join_tree, exchange_names, hide_values)
-
-
-def with_parts_put_together(chance, telling):
-    """A telling that often follows from this one: parts put together, facts left out, alike names exchanged."""
-    facts, parts = list(telling[0]), list(telling[1])
-    for count in range(chance.randint(0, 4)):
-        facts, parts = chance.choice(WAYS)(chance, facts, parts)
-    return (facts, parts)
-
-
 class FollowMixin:
     def assert_answer(self, one, other, word=None):
         """The answer is right, and of the word if one is told."""
@@ -584,34 +398,16 @@ class OwnTests(FollowMixin, unittest.TestCase):
             followed(*handed)
             self.assertEqual(handed, before)
 
-    def empty(self, told):
-        """Empty all lists and dicts of an answer."""
-        for each in told:
-            if type(each) is tuple:
-                self.empty(each)
-            elif type(each) is list:
-                self.empty(each)
-                each.clear()
-            elif type(each) is dict:
-                each.clear()
-
     def test_each_answer_is_the_askers_own(self):
         for one, other in self.all_pairs():
             told = followed(one, other)
             expected = copy.deepcopy(told)
-            self.empty(told)
+            empty(told)
             self.assert_answer(one, other, expected[0])
-
-    def lists_of(self, told):
-        found = []
-        for each in told:
-            if type(each) in (tuple, list):
-                found += self.lists_of(each) + ([each] if type(each) is list else [])
-        return found
 
     def test_no_list_stands_twice_in_a_paper(self):
         for one, other in self.all_pairs():
-            found = self.lists_of(followed(one, other))
+            found = lists_of(followed(one, other))
             self.assertEqual(len({id(each) for each in found}), len(found))
 
     def test_a_later_change_is_seen_in_the_next_answer_alone(self):
