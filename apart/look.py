@@ -3,9 +3,9 @@
 from apart.covers import fits
 from apart.follow import Taking
 from apart.known import Knowledge, ends_of
-from apart.machine import CELL_PLACES, Machine
+from apart.machine import Machine
 from apart.paths import begins, behind_deed, found_at, settled
-from apart.programs import by_names, names_in
+from apart.programs import by_names, cell_name, names_in
 from apart.states import State, begun
 from apart.tellings import FACT_WORDS, renamed
 
@@ -79,14 +79,14 @@ class Section:
             return self.branch(state, knowledge, deed)
         if deed[0] == "call":
             return self.call(state, knowledge, deed)
-        if deed[0] in CELL_PLACES:
+        if cell_name(deed) is not None:
             return self.change_cell(state, knowledge, deed)
         self.change(state, deed, None)
         return None
 
     def change_cell(self, state, knowledge, deed):
         """Do a deed that needs a cell; where it hangs on a pair whether one lies there, the pair is told."""
-        number = knowledge.number_at(state.word_of(deed[CELL_PLACES[deed[0]]]))
+        number = knowledge.number_at(state.word_of(cell_name(deed)))
         if number not in state.present:
             # No part is known to lie there, so in some state no cell does.
             self.fail(state, knowledge, {})
@@ -121,31 +121,19 @@ class Section:
         called = by_names(self.program)[deed[2]]
         words = dict(zip(called[1], [state.word_of(word) for word in deed[3]]))
         before = renamed(called[3], words)
-        for part in before[1]:
-            number = knowledge.number_at(part[1])
-            # The cell that is asked for may be the first one of a stretch or a tree, which are taken whole else.
-            if part[0] == "cell" and number in state.present and state.present[number][0] != "cell":
-                return self.open_up(state, knowledge, number)
         taking = Taking(knowledge, state.present)
         if taking.rows_of(before) is None:
             self.flaw = ("bad", self.start, "call", None, None)
             return None
         if taking.doubt is None:
             result = state.coin()
+            # Where the called one has no result nothing in its tellings is called so.
             words[called[2]] = result
             state.do_call(knowledge, taking.taken, renamed(called[4], words))
             if deed[1] != "":
                 state.words[deed[1]] = result
             self.move(state, behind_deed(state.path))
         return taking.doubt
-
-    def open_up(self, state, knowledge, number):
-        """See to it that a part is a cell; where it isn't known to be full, the pair on which this hangs is told."""
-        if number not in knowledge.fulls:
-            return ends_of(state.present[number])
-        state.opened(number)
-        self.waiting.append(state)
-        return None
 
     def end(self, state, knowledge, telling):
         """See whether all states fit what is told at a section's end; where this hangs on a pair, it is told."""

@@ -2,10 +2,7 @@
 
 from apart.covers import holds, number_of
 from apart.paths import behind_deed, found_at, settled
-from apart.programs import FIELDS, by_names, names_in, own_deeds
-
-# Where in the deed stands the name of the cell that must lie there.
-CELL_PLACES = {"read": 2, "write": 1, "free": 1}
+from apart.programs import FIELDS, by_names, cell_name, names_in, own_deeds
 
 
 class Frame:
@@ -75,7 +72,8 @@ class Machine:
             return
         frame = self.frames[-1]
         deed = frame.deed()
-        if deed[0] in CELL_PLACES and frame.number(deed[CELL_PLACES[deed[0]]]) not in self.cells:
+        name = cell_name(deed)
+        if name is not None and frame.number(name) not in self.cells:
             self.fallen = True
             return
         if deed[0] in ("if", "while"):

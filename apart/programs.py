@@ -13,6 +13,8 @@ PLAIN_FORMS = {
     "free": ("name",),
 }
 GIVING_WORDS = ("set", "read", "new", "call")
+# Where in a deed that needs a cell the name of its address stands.
+CELL_PLACES = {"read": 2, "write": 1, "free": 1}
 
 MOST_PROCEDURES = 4
 MOST_PARAMS = 4
@@ -101,6 +103,12 @@ def own_deed(deed):
 def own_deeds(deeds):
     """The same deeds, all of whose lists are new ones."""
     return [own_deed(deed) for deed in deeds]
+
+
+def cell_name(deed):
+    """The name of the address at which a cell must lie for a deed to be done, None where it needs none."""
+    place = CELL_PLACES.get(deed[0])
+    return None if place is None else deed[place]
 
 
 def all_deeds(deeds):

@@ -947,6 +947,25 @@ class CallTests(LookMixin, unittest.TestCase):
         self.assert_good(with_procedure("take r q y; new r x r", "tree y", "tree y, stretch r nil") + called)
         self.assert_good(with_procedure("take r q nil", "tree y", "tree y, stretch r nil") + called)
 
+    def test_what_is_known_stays_known_behind_a_call(self):
+        called = "\nproc q a\nbefore cell a any any\nbehind nothing\nfree a\nend"
+        body = "call q x; if x is y; free nil0; end; if nil is x; free nil0; end; if y is nil; free nil0; end; free y"
+        self.assert_good(with_procedure(body, "cell x any any, cell y any any") + called)
+        body = "new r x nil; call q r; if r is y; free nil0; end; if nil is r; free nil0; end"
+        self.assert_good(with_procedure(body, "cell y any any", "cell y any any") + called)
+        body = "if x is y; call q x; if y not x; free nil0; end; else; call q x; if y is x; free nil0; end; end"
+        self.assert_good(with_procedure(body, "cell x any any") + called)
+
+    def test_cells_of_stretches_and_trees(self):
+        called = "\nproc q a\ngives b\nbefore cell a any any\nbehind cell a nil b\nend"
+        self.assert_good(with_procedure("if x not nil; read u x second; take r q x; write x second u; end",
+                                        "stretch x nil", "stretch x nil") + called)
+        self.assert_good(with_procedure("if x not nil; read u x first; read v x second; take r q x; write x first u; "
+                                        "write x second v; end", "tree x", "tree x") + called)
+        self.assert_word(with_procedure("take r q x", "stretch x nil", "stretch x nil") + called, "call")
+        self.assert_word(with_procedure("if x not nil; take r q x; end", "stretch x nil", "stretch x nil") + called,
+                         "call")
+
     def test_spoilt_calling_ones(self):
         seen = {"good": 0, "fall": 0, "unfit": 0, "call": 0}
         for text in CALLING:
