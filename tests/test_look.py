@@ -1,9 +1,11 @@
 import copy
+import itertools
 import random
 import unittest
 
-from apart.covers import fits
+from apart.covers import cover, fits
 from apart.errors import ApartError
+from apart.known import clashes
 from apart.look import looked, told_at
 from apart.machine import Machine
 from apart.notes import read_telling, show_telling
@@ -794,9 +796,7 @@ class EdgeTests(LookMixin, unittest.TestCase):
             self.assert_word(with_procedure(body, telling, telling, "x y z w"), word)
 
 
-class ChanceTests(LookMixin, unittest.TestCase):
-    """Points 31 and 32: procedures by chance."""
-
+class ChanceMixin(LookMixin):
     def some_deeds(self, chance, names, others, around):
         return [self.some_deed(chance, names, others, around)
                 for count in range(chance.randint(0, 4 if around == 0 else 2))]
@@ -817,6 +817,10 @@ class ChanceTests(LookMixin, unittest.TestCase):
             ("write", chance.choice(names), field, chance.choice(words)),
             ("new", chance.choice(others), chance.choice(words), chance.choice(words)),
         ))
+
+
+class ChanceTests(ChanceMixin, unittest.TestCase):
+    """Points 31 and 32: procedures by chance."""
 
     def some_procedure(self, chance):
         params, others = ("x", "y")[:chance.randint(0, 2)], ["u", "v", "r"][:chance.randint(1, 3)]
@@ -856,6 +860,41 @@ class ChanceTests(LookMixin, unittest.TestCase):
             if count % 3:
                 self.assertEqual(word, "good", (show_telling(before), show_telling(behind)))
         self.assertGreater(min(seen.values()), 50, seen)
+
+
+class SmallHeapTests(ChanceMixin, unittest.TestCase):
+    """Points 31 and 32: of all small states none fails in a section that is let by."""
+
+    def all_states(self, names, telling):
+        """All states of numbers up to 3 and at most two cells that fit."""
+        cells = [None] + list(itertools.product(range(4), repeat=2))
+        heaps = [{address: cell for address, cell in ((1, one), (2, other)) if cell is not None}
+                 for one, other in itertools.product(cells, repeat=2)]
+        for numbers in itertools.product(range(4), repeat=len(names)):
+            values = dict(zip(names, numbers))
+            if cover(values, {}, (telling[0], [])) is not None:
+                yield from [(values, heap) for heap in heaps if fits(values, heap, telling)]
+
+    def test_procedures_by_chance(self):
+        chance = random.Random(36)
+        params = ("x", "y")
+        seen = {"good": 0, "fall": 0, "unfit": 0}
+        while seen["good"] < 60:
+            # It is the outer loop's body that is looked at: all else is over at once, or clashes.
+            telling = some_telling(chance, params, 1, 2)
+            end = telling if chance.random() < 0.5 else some_telling(chance, params, 1, 2)
+            deeds = [deed for deed in self.some_deeds(chance, ["x", "y", "u"], ["u"], 0) if deed[0] != "while"]
+            loop = ("while", ("is", "nil", "nil"), telling, deeds + [("while", ("is", "nil", "nil"), end, [])])
+            program = [("p", params, "", telling, ([], []), [loop])]
+            if len(deeds) == 0 or clashes(telling[0], telling[1]):
+                continue
+            word = self.assert_sound(program, "p")
+            seen[word] += 1
+            if word == "good":
+                for values, heap in self.all_states(names_in(program[0]), telling):
+                    state = (show_program(program), values, heap)
+                    self.assertIsNone(failure(program, program[0], (0, 0, 0), values, heap), state)
+        self.assertGreater(min(seen.values()), 20, seen)
 
 
 class CallTests(LookMixin, unittest.TestCase):
